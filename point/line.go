@@ -3,6 +3,7 @@ package point
 import (
 	"plenum/api"
 	"plenum/lexer"
+	"plenum/lines"
 )
 
 // Line returns the canonical line of a point with its kids.
@@ -12,7 +13,7 @@ func Line(p api.Point) (api.Line, api.Errno) {
 	}
 	kids := kidLines(p)
 	return api.Line{
-		Tokens:  wordTokens("point", p.Name, kindWords()[p.Kind-1], roleWords()[p.Role-1]),
+		Tokens:  lines.Words("point", p.Name, kindWords()[p.Kind-1], roleWords()[p.Role-1]),
 		Heading: len(kids) > 0,
 		Kids:    kids,
 	}, api.OK
@@ -22,50 +23,32 @@ func Line(p api.Point) (api.Line, api.Errno) {
 func kidLines(p api.Point) []api.Line {
 	var kids []api.Line
 	add := func(word string, tokens ...api.Token) {
-		kids = append(kids, api.Line{Tokens: append(wordTokens(word), tokens...)})
+		kids = append(kids, api.Line{Tokens: append(lines.Words(word), tokens...)})
 	}
 	if p.Unit != "" {
 		add("unit", unitToken(p.Unit))
 	}
 	if isAnalog(p) {
-		add("range", numberToken(p.Low), wordToken("to"), numberToken(p.High))
+		add("range", lines.Number(p.Low), lines.Word("to"), lines.Number(p.High))
 	}
 	if p.Step != 0 {
-		add("step", numberToken(p.Step))
+		add("step", lines.Number(p.Step))
 	}
 	if isMulti(p) {
-		add("states", wordTokens(p.States...)...)
+		add("states", lines.Words(p.States...)...)
 	}
 	if p.Default != usualDefault(p) {
 		add("default", defaultToken(p))
 	}
 	if p.MinOn != 0 || p.MinOff != 0 {
-		add("minimum", wordToken("on"), secondsToken(p.MinOn), wordToken("off"), secondsToken(p.MinOff))
+		add("minimum", lines.Word("on"), lines.Whole(p.MinOn), lines.Word("off"), lines.Whole(p.MinOff))
 	}
 	return kids
 }
 
-// wordToken returns a word.
-func wordToken(s string) api.Token { return api.Token{Kind: api.TokWord, Text: s} }
-
-// wordTokens returns words.
-func wordTokens(list ...string) []api.Token {
-	var tokens []api.Token
-	for _, s := range list {
-		tokens = append(tokens, wordToken(s))
-	}
-	return tokens
-}
-
-// numberToken returns a number of thousandths.
-func numberToken(n int64) api.Token { return api.Token{Kind: api.TokNumber, N: n} }
-
-// secondsToken returns a number of seconds.
-func secondsToken(n int) api.Token { return numberToken(int64(n) * thousand) }
-
 // unitToken returns the text of a unit, as a word if it can be one.
 func unitToken(text string) api.Token {
-	if t := wordToken(text); lexer.Valid(t) {
+	if t := lines.Word(text); lexer.Valid(t) {
 		return t
 	}
 	return api.Token{Kind: api.TokText, Text: text}
@@ -76,9 +59,9 @@ func defaultToken(p api.Point) api.Token {
 	n := p.Default.N
 	switch p.Kind {
 	case api.Binary:
-		return wordToken(switchWords()[n])
+		return lines.Word(switchWords()[n])
 	case api.Multi:
-		return wordToken(p.States[n-1])
+		return lines.Word(p.States[n-1])
 	}
-	return numberToken(n)
+	return lines.Number(n)
 }

@@ -4,7 +4,7 @@ import (
 	"slices"
 
 	"plenum/api"
-	"plenum/lexer"
+	"plenum/lines"
 )
 
 // kindWords returns the words for the kinds of points, in the order of their numbers from 1 on.
@@ -19,7 +19,7 @@ func switchWords() []string { return []string{"off", "on"} }
 // handler is how a kid is read: for which points it is, and what reads its tokens behind the word.
 type handler struct {
 	suits func(p api.Point) bool
-	read  func(p *api.Point, c *cursor)
+	read  func(p *api.Point, c *lines.Cursor)
 }
 
 // handlers returns the handlers of all kids by their words.
@@ -45,7 +45,7 @@ func Load(l api.Line) (api.Point, api.Fault) {
 		return api.Point{}, fault
 	}
 	if lacks(p, kids) {
-		return api.Point{}, faultAtEnd(l, api.ErrSyntax)
+		return api.Point{}, lines.FaultAtEnd(l, api.ErrSyntax)
 	}
 	// The range or the states may stand behind the default.
 	p.Default = usualDefault(p)
@@ -60,16 +60,14 @@ func Load(l api.Line) (api.Point, api.Fault) {
 
 // loadHead returns what a line says without its kids.
 func loadHead(l api.Line) (api.Point, api.Fault) {
-	c := &cursor{line: l}
+	c := lines.NewCursor(l, 0)
 	p := api.Point{}
-	c.oneOf("point")
-	if p.Name = c.word(); !lexer.Name(p.Name) {
-		c.refuse(api.ErrName)
-	}
-	p.Kind = c.oneOf(kindWords()...)
-	p.Role = c.oneOf(roleWords()...)
-	c.end()
-	return p, c.fault
+	c.OneOf("point")
+	p.Name = c.Name()
+	p.Kind = c.OneOf(kindWords()...)
+	p.Role = c.OneOf(roleWords()...)
+	c.End()
+	return p, c.Fault()
 }
 
 // loadKids puts what kids say into a point, their Default apart, and returns them by their words.
@@ -79,20 +77,18 @@ func loadKids(p *api.Point, list []api.Line) (map[string]api.Line, api.Fault) {
 		word := firstWord(l)
 		h, ok := known[word]
 		if !ok || !h.suits(*p) {
-			return nil, faultAt(l, 0, api.ErrSyntax)
+			return nil, lines.FaultAt(l, 0, api.ErrSyntax)
 		}
 		if _, again := kids[word]; again {
-			return nil, faultAt(l, 0, api.ErrDuplicate)
+			return nil, lines.FaultAt(l, 0, api.ErrDuplicate)
 		}
 		kids[word] = l
-		c := &cursor{line: l, next: 1}
+		c := lines.NewCursor(l, 1)
 		h.read(p, c)
-		c.end()
-		if l.Heading || len(l.Kids) > 0 {
-			c.fail(len(l.Tokens), api.ErrSyntax)
-		}
-		if c.fault.Code != api.OK {
-			return nil, c.fault
+		c.End()
+		c.Alone()
+		if fault := c.Fault(); fault.Code != api.OK {
+			return nil, fault
 		}
 	}
 	return kids, api.Fault{}
@@ -114,71 +110,69 @@ func lacks(p api.Point, kids map[string]api.Line) bool {
 }
 
 // readUnit reads UNIT.
-func readUnit(p *api.Point, c *cursor) {
-	t := c.take(func(t api.Token) bool { return t.Kind == api.TokWord || t.Kind == api.TokText })
+func readUnit(p *api.Point, c *lines.Cursor) {
+	t := c.Take(func(t api.Token) bool { return t.Kind == api.TokWord || t.Kind == api.TokText })
 	unit, e := canonicalUnit(t.Text)
 	if e != api.OK {
-		c.refuse(e)
+		c.Refuse(e)
 	}
 	p.Unit = unit
 }
 
 // readRange reads LOW to HIGH.
-func readRange(p *api.Point, c *cursor) {
-	p.Low = c.number()
-	c.oneOf("to")
-	if p.High = c.number(); p.High <= p.Low {
-		c.refuse(api.ErrRange)
+func readRange(p *api.Point, c *lines.Cursor) {
+	p.Low = c.Number()
+	c.OneOf("to")
+	if p.High = c.Number(); p.High <= p.Low {
+		c.Refuse(api.ErrRange)
 	}
 }
 
 // readStep reads STEP.
-func readStep(p *api.Point, c *cursor) {
-	if p.Step = c.number(); p.Step < 0 {
-		c.refuse(api.ErrRange)
+func readStep(p *api.Point, c *lines.Cursor) {
+	if p.Step = c.Number(); p.Step < 0 {
+		c.Refuse(api.ErrRange)
 	}
 }
 
 // readStates reads STATE STATE and so on.
-func readStates(p *api.Point, c *cursor) {
+func readStates(p *api.Point, c *lines.Cursor) {
 	readState(p, c)
-	for c.more() {
+	for c.More() {
 		readState(p, c)
 	}
 }
 
 // readState reads STATE.
-func readState(p *api.Point, c *cursor) {
-	state := c.word()
+func readState(p *api.Point, c *lines.Cursor) {
+	state := c.Name()
 	switch {
-	case !lexer.Name(state):
-		c.refuse(api.ErrName)
 	case len(p.States) == api.MaxStates:
-		c.refuse(api.ErrTooMany)
+		c.Refuse(api.ErrTooMany)
 	case slices.Contains(p.States, state):
-		c.refuse(api.ErrDuplicate)
+		c.Refuse(api.ErrDuplicate)
 	}
 	p.States = append(p.States, state)
 }
 
 // readDefault reads V without its meaning.
-func readDefault(p *api.Point, c *cursor) {
+func readDefault(p *api.Point, c *lines.Cursor) {
 	switch p.Kind {
 	case api.Analog:
-		c.number()
+		c.Number()
 	case api.Binary:
-		c.oneOf(switchWords()...)
+		c.OneOf(switchWords()...)
 	case api.Multi:
-		c.word()
+		c.Word()
 	}
 }
 
 // readMinimum reads on N off N.
-func readMinimum(p *api.Point, c *cursor) {
-	c.oneOf("on")
-	p.MinOn = c.seconds()
-	c.oneOf("off")
-	p.MinOff = c.seconds()
+func readMinimum(p *api.Point, c *lines.Cursor) {
+	c.OneOf("on")
+	p.MinOn = c.Whole(MaxMinimum)
+	c.OneOf("off")
+	p.MinOff = c.Whole(MaxMinimum)
 }
 
 // loadDefault returns the value that the kid default of a point gives.
@@ -190,14 +184,14 @@ func loadDefault(p api.Point, kid api.Line) (api.Value, api.Fault) {
 	case api.Analog:
 		v.N = t.N
 		if !Fits(p, v) {
-			return api.Value{}, faultAt(kid, at, api.ErrRange)
+			return api.Value{}, lines.FaultAt(kid, at, api.ErrRange)
 		}
 	case api.Binary:
 		v.N = int64(slices.Index(switchWords(), t.Text))
 	case api.Multi:
 		state, e := State(p, t.Text)
 		if e != api.OK {
-			return api.Value{}, faultAt(kid, at, e)
+			return api.Value{}, lines.FaultAt(kid, at, e)
 		}
 		v.N = int64(state)
 	}
