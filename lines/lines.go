@@ -84,14 +84,29 @@ func (c *Cursor) Number() int64 {
 	return c.Take(func(t api.Token) bool { return t.Kind == api.TokNumber }).N
 }
 
-// Whole returns the next token, a whole number from 0 to the greatest one that is allowed.
-func (c *Cursor) Whole(most int) int {
+// Integer returns the next token, a whole number of any size.
+func (c *Cursor) Integer() int64 {
 	n := c.Number()
-	if n < 0 || n > int64(most)*thousand || n%thousand != 0 {
+	if n%thousand != 0 {
 		c.Refuse(api.ErrRange)
 	}
-	return int(n / thousand)
+	return n / thousand
 }
+
+// between returns the next token, a whole number between two others.
+func (c *Cursor) between(least, most int) int {
+	n := c.Integer()
+	if n < int64(least) || n > int64(most) {
+		c.Refuse(api.ErrRange)
+	}
+	return int(n)
+}
+
+// Whole returns the next token, a whole number from 0 to the greatest one that is allowed.
+func (c *Cursor) Whole(most int) int { return c.between(0, most) }
+
+// Count returns the next token, a whole number from 1 to the greatest one that is allowed.
+func (c *Cursor) Count(most int) int { return c.between(1, most) }
 
 // End notes a fault if a token is left.
 func (c *Cursor) End() {

@@ -69,7 +69,6 @@ func TestFaults(t *testing.T) {
 		{2, func(c *lines.Cursor) { c.Name() }, fault(api.ErrName, 5)},
 		{3, func(c *lines.Cursor) { c.Word() }, fault(api.ErrSyntax, 7)},
 		{0, func(c *lines.Cursor) { c.Number() }, fault(api.ErrSyntax, 1)},
-		{0, func(c *lines.Cursor) { c.Whole(9) }, fault(api.ErrSyntax, 1)},
 		{0, func(c *lines.Cursor) { c.OneOf("A", "b") }, fault(api.ErrSyntax, 1)},
 		{3, func(c *lines.Cursor) { c.OneOf("c") }, fault(api.ErrSyntax, 7)},
 		{3, func(c *lines.Cursor) { c.End() }, fault(api.ErrSyntax, 7)},
@@ -91,18 +90,37 @@ func TestFaults(t *testing.T) {
 	}
 }
 
-func TestWhole(t *testing.T) {
-	for n, want := range map[int64]int{0: 0, 1000: 1, 60000: 60, 100000: 100} {
-		c := lines.NewCursor(numberLine(n), 0)
-		if got := c.Whole(100); got != want || c.Fault() != (api.Fault{}) {
-			t.Errorf("Whole of %d: %d, %v", n, got, c.Fault())
+func TestWholeNumbers(t *testing.T) {
+	whole := func(c *lines.Cursor) int64 { return int64(c.Whole(100)) }
+	count := func(c *lines.Cursor) int64 { return int64(c.Count(100)) }
+	integer := func(c *lines.Cursor) int64 { return c.Integer() }
+	for i, x := range []struct {
+		read      func(c *lines.Cursor) int64
+		good, bad []int64
+	}{
+		{whole, []int64{0, 1000, 60000, 100000}, []int64{-1, -1000, 1, 999, 1001, 100001, 101000, math.MaxInt64, math.MinInt64}},
+		{count, []int64{1000, 60000, 100000}, []int64{0, -1, -1000, 1, 999, 1001, 100001, 101000, math.MaxInt64, math.MinInt64}},
+		{integer, []int64{0, 1000, -1000, -60000, 101000, math.MaxInt64 / 1000 * 1000, math.MinInt64 / 1000 * 1000}, []int64{1, -1, 999, -1001, 100001, math.MaxInt64, math.MinInt64}},
+	} {
+		for _, n := range x.good {
+			c := lines.NewCursor(numberLine(n), 0)
+			if got := x.read(c); got != n/1000 || c.Fault() != (api.Fault{}) {
+				t.Errorf("%d of %d: %d, %v", i, n, got, c.Fault())
+			}
 		}
-	}
-	for _, n := range []int64{-1, -1000, 1, 999, 1001, 100001, 101000, math.MaxInt64, math.MinInt64} {
-		c := lines.NewCursor(numberLine(n), 0)
-		c.Whole(100)
-		if f := c.Fault(); f != fault(api.ErrRange, 4) {
-			t.Errorf("Whole of %d: %v", n, f)
+		for _, n := range x.bad {
+			c := lines.NewCursor(numberLine(n), 0)
+			x.read(c)
+			if f := c.Fault(); f != fault(api.ErrRange, 4) {
+				t.Errorf("%d of %d: %v", i, n, f)
+			}
+		}
+		for _, passed := range []int{0, 9} {
+			c := lines.NewCursor(line(), passed)
+			x.read(c)
+			if f := c.Fault(); f.Code != api.ErrSyntax {
+				t.Errorf("%d without a number: %v", i, f)
+			}
 		}
 	}
 }
